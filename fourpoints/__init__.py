@@ -1,0 +1,1 @@
+"""Fourpoints: curves of many samples drawn in few columns."""
