@@ -1,13 +1,11 @@
 """Windows (begin, wide, many), their columns, and the steps from one window to another."""
 
 from fourpoints.errors import NoColumn, NotHalf
-from fourpoints.wholes import is_whole
+from fourpoints.wholes import is_scale, is_whole
 
 
 def is_window(thing):
-    if not isinstance(thing, tuple) or len(thing) != 3:
-        return False
-    return all([is_whole(part) for part in thing]) and thing[1] >= 1 and thing[2] >= 1
+    return is_scale(thing)
 
 
 def column_of(window, t):

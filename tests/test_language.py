@@ -25,7 +25,10 @@ NODES = (
     ast.UnaryOp, ast.BoolOp, ast.Compare, ast.IfExp, ast.Call, ast.keyword, ast.Attribute, ast.Subscript, ast.Slice,
     ast.ListComp, ast.comprehension, ast.JoinedStr, ast.FormattedValue, ast.Lambda, ast.expr_context, ast.operator,
     ast.unaryop, ast.boolop, ast.cmpop)
+PYTHONS_OWN = {name for kind in (str, int, list, tuple, dict, set, bytes) for name in dir(kind)}
+TAKEN_VALUES = (PYTHONS_OWN | {"args"}) - set("count index title find get join lower upper split strip copy add".split())
 METHODS_WITH_UNDERSCORES = ("__init__", "__eq__", "__repr__", "__str__", "__len__")
+TAKEN_METHODS = PYTHONS_OWN - METHODS - set(METHODS_WITH_UNDERSCORES) - {"add", "discard"}
 
 
 def files():
@@ -186,6 +189,58 @@ class Forms(unittest.TestCase):
             if isinstance(node.func, ast.Attribute):
                 with self.subTest(f"{place}: {node.func.attr}"):
                     self.assertIn(node.func.attr, METHODS | own)
+
+    def test_the_top_of_a_file_binds_each_name_once(self):
+        for path, tree in trees():
+            top = []
+            for node in tree.body:
+                if isinstance(node, ast.ImportFrom):
+                    top.extend(alias.asname or alias.name for alias in node.names)
+                elif isinstance(node, ast.Assign):
+                    top.extend(target.id for target in node.targets)
+                    with self.subTest(f"{path.name}:{node.lineno}"):
+                        ast.literal_eval(node.value)
+                elif isinstance(node, (ast.FunctionDef, ast.ClassDef)):
+                    top.append(node.name)
+            with self.subTest(path.name):
+                self.assertEqual(len(top), len(set(top)))
+
+    def test_no_local_is_called_like_a_class_or_an_import(self):
+        for path, tree in trees():
+            taken = {node.name for node in tree.body if isinstance(node, ast.ClassDef)} | {
+                alias.name for node in tree.body if isinstance(node, ast.ImportFrom) for alias in node.names}
+            for node in ast.walk(tree):
+                name = node.arg if isinstance(node, ast.arg) else (
+                    node.id if isinstance(node, ast.Name) and isinstance(node.ctx, ast.Store) else None)
+                with self.subTest(f"{path.name}: {name}"):
+                    self.assertNotIn(name, taken)
+
+
+class Classes(unittest.TestCase):
+    def test_methods_and_values(self):
+        methods = [inner.name for place, node in nodes(ast.ClassDef) for inner in node.body
+                   if isinstance(inner, ast.FunctionDef)]
+        values = {node.attr for place, node in nodes(ast.Attribute) if isinstance(node.ctx, ast.Store)}
+        self.assertEqual(values & set(methods), set())
+        for name in values:
+            with self.subTest(name):
+                self.assertNotIn(name, TAKEN_VALUES)
+        for name in methods:
+            with self.subTest(name):
+                self.assertNotIn(name, TAKEN_METHODS)
+        for place, node in nodes(ast.ClassDef):
+            with self.subTest(place):
+                names = [inner.name for inner in node.body if isinstance(inner, ast.FunctionDef)]
+                self.assertEqual(len(names), len(set(names)))
+                self.assertIn(node.name, {inner.name for path, tree in trees() for inner in tree.body
+                                          if isinstance(inner, ast.ClassDef)})
+
+    def test_init_gives_nothing_back(self):
+        for place, node in nodes(ast.FunctionDef):
+            if node.name == "__init__":
+                with self.subTest(place):
+                    self.assertFalse([inner for inner in ast.walk(node)
+                                      if isinstance(inner, ast.Return) and inner.value is not None])
 
 
 if __name__ == "__main__":
