@@ -3,7 +3,7 @@
 from fourpoints.fours import kept_of
 from fourpoints.samples import part_of
 from fourpoints.wholes import is_scale
-from fourpoints.windows import times_of
+from fourpoints.windows import columns_of
 
 
 def is_heights(thing):
@@ -13,7 +13,7 @@ def is_heights(thing):
 def dots_of(curve, window, heights):
     begin, wide, many = window
     counting = part_of(curve, begin, begin + many * wide)
-    return tuple([column_dots(counting, times_of(window, k), heights) for k in range(many)])
+    return tuple([column_dots(counting, times, heights) for times in columns_of(window)])
 
 
 def dots_by(fours, window, heights):
@@ -53,11 +53,23 @@ def row_of(height, parts, heights):
 
 
 def dots_text(dots, rows):
-    return "".join([line_text(dots, row) for row in range(rows - 1, -1, -1)])
+    return layers_text([("#", dots)], len(dots), rows)
 
 
-def line_text(dots, row):
-    return "".join(["#" if has_dot(pair, row) else "." for pair in dots]) + "\n"
+def layers_text(layers, many, rows):
+    # A layer is a sign and the dots that it stands for; where several have a dot, the one ahead is seen.
+    return "".join([line_text(layers, many, row) for row in range(rows - 1, -1, -1)])
+
+
+def line_text(layers, many, row):
+    return "".join([sign_at(layers, k, row) for k in range(many)]) + "\n"
+
+
+def sign_at(layers, k, row):
+    for sign, dots in layers:
+        if has_dot(dots[k], row):
+            return sign
+    return "."
 
 
 def has_dot(pair, row):

@@ -4,7 +4,7 @@ from fourpoints.errors import OutOfTimes
 from fourpoints.fours import four_of, joined
 from fourpoints.samples import curve_of
 from fourpoints.wholes import is_whole
-from fourpoints.windows import times_of
+from fourpoints.windows import columns_of
 
 TOP_LEVEL = 40
 # 2 ** 40: tree times are those from -TIMES_END on and before TIMES_END.
@@ -63,7 +63,14 @@ class Tree:
     def put(self, t, h):
         check_time(t)
         self.samples[t] = h
-        self.kept_fours[(0, t)] = four_of(((t, h),))
+        self.renew(t, four_of(((t, h),)))
+
+    def take(self, t):
+        self.samples.pop(t)
+        self.renew(t, None)
+
+    def renew(self, t, four):
+        self.kept_fours[(0, t)] = four
         # From below, so that each stretch is joined of halves that are right already.
         s = t
         for level in range(TOP_LEVEL):
@@ -82,8 +89,7 @@ class Tree:
     def fours(self, window):
         # The whole window first, since what is refused adds no looks.
         check_window(window)
-        columns = [times_of(window, k) for k in range(window[2])]
-        return tuple([self.four(first, behind) for first, behind in columns])
+        return tuple([self.four(first, behind) for first, behind in columns_of(window)])
 
     def told(self):
         return curve_of(list(self.samples.items()))

@@ -22,6 +22,10 @@ def times_of(window, k):
     return (first, first + wide)
 
 
+def columns_of(window):
+    return [times_of(window, k) for k in range(window[2])]
+
+
 def moved(window, c):
     begin, wide, many = window
     return (begin + c * wide, wide, many)

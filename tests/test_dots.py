@@ -2,39 +2,11 @@ import inspect
 import itertools
 import random
 import unittest
-from fractions import Fraction
 
+from by_words import SIXTY, dots_by_words
 from fourpoints import dots
 from fourpoints.dots import dots_by, dots_of, dots_text, is_heights
 from fourpoints.fours import fours_of, kept_of
-
-SIXTY = 10 ** 60 - 1
-
-
-def met_by_the_words(curve, window, k):
-    """The heights that a column meets, as pairs (least, greatest) of broken numbers, one for each sample and piece."""
-    begin, wide, many = window
-    counting = [s for s in curve if any(begin + j * wide <= s[0] < begin + (j + 1) * wide for j in range(many))]
-    x, z = begin + k * wide, begin + (k + 1) * wide
-    met = [(Fraction(h), Fraction(h)) for t, h in counting if x <= t < z]
-    for (t, h), (u, g) in zip(counting, counting[1:]):
-        if t < z and x < u:
-            ends = [h + Fraction(g - h, u - t) * (time - t) for time in (max(x, t), min(z, u))]
-            met.append((min(ends), max(ends)))
-    return met
-
-
-def looked_up(curve, window, heights):
-    """The dots by the words of the document: each row of each column by itself."""
-    low, tall, rows = heights
-    told = []
-    for k in range(window[2]):
-        met = met_by_the_words(curve, window, k)
-        numbers = [r for r in range(rows)
-                   if any(least < low + (r + 1) * tall and low + r * tall <= greatest for least, greatest in met)]
-        assert numbers == list(range(numbers[0], numbers[-1] + 1)) if numbers else True
-        told.append((numbers[0], numbers[-1]) if numbers else None)
-    return tuple(told)
 
 
 def some_case(chance):
@@ -81,7 +53,7 @@ class DotsOf(unittest.TestCase):
         with self.subTest((curve, window, heights)):
             self.assertEqual(dots_of(curve, window, heights), expected)
             self.assertEqual(dots_of(curve, window, heights), expected)
-            self.assertEqual(looked_up(curve, window, heights), expected)
+            self.assertEqual(dots_by_words(curve, window, heights), expected)
 
     def test_the_example_of_the_document(self):
         self.told(((0, 0), (1, 5)), (0, 1, 2), (0, 1, 6), ((0, 5), (5, 5)))
@@ -173,14 +145,14 @@ class DotsOf(unittest.TestCase):
             h = chance.choice(curve)[1]
             heights = (chance.choice((h, h - 1, h + 1, -SIXTY)), chance.choice((1, 2, SIXTY // 7)), 12)
             self.assertEqual(dots_of(curve, (begin, wide, many), heights),
-                             looked_up(curve, (begin, wide, many), heights), (curve, begin, wide, many, heights))
+                             dots_by_words(curve, (begin, wide, many), heights), (curve, begin, wide, many, heights))
 
     def test_by_the_words(self):
         chance = random.Random(22)
         for turn in range(1500):
             curve, window, heights = some_case(chance)
             told = dots_of(curve, window, heights)
-            self.assertEqual(told, looked_up(curve, window, heights), (curve, window, heights))
+            self.assertEqual(told, dots_by_words(curve, window, heights), (curve, window, heights))
             self.assertIs(type(told), tuple)
             self.assertEqual(len(told), window[2])
 
@@ -191,7 +163,7 @@ class DotsOf(unittest.TestCase):
                     curve = tuple(zip(times, heights))
                     for window in ((0, 2, 3), (1, 1, 4), (-1, 3, 2)):
                         self.assertEqual(dots_of(curve, window, (-1, 1, 3)),
-                                         looked_up(curve, window, (-1, 1, 3)), (curve, window))
+                                         dots_by_words(curve, window, (-1, 1, 3)), (curve, window))
 
 
 class DotsBy(unittest.TestCase):

@@ -3,30 +3,17 @@ import itertools
 import random
 import unittest
 
+from by_words import SIXTY, four_by_words
 from fourpoints import fours
 from fourpoints.fours import four_of, fours_of, joined, kept_of
 from fourpoints.samples import is_curve, part_of
 from fourpoints.windows import times_of
-
-SIXTY = 10 ** 60 - 1
 
 
 def some_curve(chance, many, times=60, heights=5):
     begin = chance.randrange(-times, times)
     return tuple((t, chance.randrange(-heights, heights)) for t in
                  sorted(chance.sample(range(begin, begin + 2 * times), many)))
-
-
-def looked_up(curve):
-    """The four by the words of the document: each sample held against all others."""
-    if not curve:
-        return None
-    first = [s for s in curve if all(s[0] <= o[0] for o in curve)]
-    last = [s for s in curve if all(s[0] >= o[0] for o in curve)]
-    low = [s for s in curve if all(s[1] < o[1] or (s[1] == o[1] and s[0] <= o[0]) for o in curve)]
-    high = [s for s in curve if all(s[1] > o[1] or (s[1] == o[1] and s[0] <= o[0]) for o in curve)]
-    assert len(first) == len(last) == len(low) == len(high) == 1
-    return (first[0], last[0], low[0], high[0])
 
 
 class Interface(unittest.TestCase):
@@ -68,7 +55,7 @@ class FourOf(unittest.TestCase):
         for many in range(6):
             for heights in itertools.product((-1, 0, 1), repeat=many):
                 curve = tuple((3 * n - 4, heights[n]) for n in range(many))
-                self.assertEqual(four_of(curve), looked_up(curve), curve)
+                self.assertEqual(four_of(curve), four_by_words(curve), curve)
 
     def test_two_thousand_samples(self):
         curve = tuple((3 * n - 3000, (n * n) % 1009 - 500) for n in range(2000))
@@ -98,7 +85,7 @@ class Joined(unittest.TestCase):
                 curve = tuple((2 * n - 5, heights[n]) for n in range(many))
                 for cut in range(many + 1):
                     told = joined(four_of(curve[:cut]), four_of(curve[cut:]))
-                    self.assertEqual(told, looked_up(curve), (curve, cut))
+                    self.assertEqual(told, four_by_words(curve), (curve, cut))
 
     def test_sixty_figures(self):
         curve = ((-SIXTY, 1), (-SIXTY + 1, -SIXTY), (0, SIXTY), (SIXTY, SIXTY - 1))
@@ -144,7 +131,7 @@ class FoursOf(unittest.TestCase):
             self.assertEqual(len(told), window[2])
             for k in range(window[2]):
                 first, behind = times_of(window, k)
-                self.assertEqual(told[k], looked_up(part_of(curve, first, behind)), (curve, window, k))
+                self.assertEqual(told[k], four_by_words(part_of(curve, first, behind)), (curve, window, k))
             self.assertEqual(fours_of(curve, window), told)
 
 

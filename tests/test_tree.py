@@ -3,20 +3,13 @@ import itertools
 import random
 import unittest
 
+from by_words import (
+    BESIDE, END, JUST_WITHIN, NO_BORDERS, NO_TIMES, OUTSIDE, SIXTY, some_time, some_window)
 from fourpoints import tree as tree_file
 from fourpoints.errors import FourPointsError, OutOfTimes
 from fourpoints.fours import four_of, fours_of
 from fourpoints.samples import part_of
 from fourpoints.tree import Tree, stretches
-
-END = 2 ** 40
-SIXTY = 10 ** 60 - 1
-NO_BORDERS = (END + 1, -END - 1, 2 ** 41, SIXTY, -SIXTY, True, False, None, "", "0", (), (0,), [], [0], {}, b"0",
-              object(), int)
-NO_TIMES = (END,) + NO_BORDERS
-# Times beside the borders of great and small stretches.
-BESIDE = sorted({sign * 2 ** level + step for level in (0, 1, 2, 7, 20, 39, 40) for sign in (-1, 1)
-                 for step in (-2, -1, 0, 1, 2) if -END <= sign * 2 ** level + step <= END} | {0})
 
 
 def looked_up(begin, end):
@@ -32,22 +25,6 @@ def looked_up(begin, end):
 def window_looks(window):
     begin, wide, many = window
     return sum(len(looked_up(begin + k * wide, begin + (k + 1) * wide)) for k in range(many))
-
-
-def some_time(chance):
-    if chance.randrange(3) == 0:
-        return chance.choice([t for t in BESIDE if t < END])
-    if chance.randrange(3) == 0:
-        return chance.randrange(-END, END)
-    return chance.randrange(-40, 40)
-
-
-def some_window(chance):
-    many = chance.randrange(1, 13)
-    if chance.randrange(3) == 0:
-        wide = chance.randrange(1, 2 * END // many + 1)
-        return (chance.randrange(-END, END - wide * many + 1), wide, many)
-    return (chance.randrange(-50, 50), chance.randrange(1, 12), many)
 
 
 class Interface(unittest.TestCase):
@@ -274,9 +251,7 @@ class Refusals(unittest.TestCase):
                     self.unchanged(tree, 0)
 
     def test_fours(self):
-        for window in ((-END - 1, 1, 1), (-END - 1, 2, 3), (END, 1, 1), (END - 1, 1, 2), (END - 1, 2, 1), (0, END, 2),
-                       (0, END + 1, 1), (END - 11, 1, 12), (-END, END, 3), (1 - END, END, 2), (-SIXTY, 1, 12),
-                       (SIXTY, 1, 12), (0, SIXTY, 1), (0, 1, SIXTY), (-5, SIXTY, 12), (-SIXTY, SIXTY, 2)):
+        for window in OUTSIDE:
             with self.subTest(window):
                 tree = Tree(self.curve)
                 tree.four(0, 1)
@@ -286,7 +261,7 @@ class Refusals(unittest.TestCase):
 
     def test_windows_just_within(self):
         tree = Tree(self.curve)
-        for window in ((-END, 1, 12), (END - 12, 1, 12), (-END, END, 2), (1 - END, 2 * END - 1, 1), (END - 1, 1, 1)):
+        for window in JUST_WITHIN:
             with self.subTest(window):
                 self.assertEqual(tree.fours(window), fours_of(self.curve, window))
 
